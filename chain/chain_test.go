@@ -405,7 +405,7 @@ func TestP2Resolve(t *testing.T) {
 	have := func(x api.ID) (int, []byte, bool) { return api.Blob, kept, x == id("outside") }
 	got, bases, err := chain.Resolve(room[:len(l)], have)
 	again, basesAgain, _ := chain.Resolve(room[:len(l)], have)
-	want, wantBases, _, _ := slowResolve(l, blobs("outside"))
+	want, wantBases, _ := slowResolve(l, blobs("outside"))
 	if err != api.OK || !sameObjects(got, want) || !sameObjects(again, want) || !slices.Equal(bases, wantBases) || !slices.Equal(basesAgain, wantBases) {
 		t.Fatalf("%+v, %x, %v", got, bases, err)
 	}

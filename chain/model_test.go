@@ -104,26 +104,56 @@ type slow struct {
 	told    map[int]chain.Object
 	wrong   map[int]api.Errno
 	outside []api.ID
+	bases   [][]int // of each entry those that may be its base as long as have is not asked again, in order
+	lost    map[int]bool
 }
 
-// base answers the base that entry n has among what is told.
-func (s *slow) base(n int) (chain.Object, bool) {
-	e := s.l[n]
-	for k := range s.l {
-		o, told := s.told[k]
-		switch {
-		case !told:
-		case e.Kind == 6 && e.Back > 0 && s.l[k].At == e.At-e.Back, e.Kind == 7 && o.ID == e.Base:
-			return o, true
-		}
-	}
-	return chain.Object{}, false
-}
-
-func (s *slow) open(n int) bool {
+func (s *slow) isOpen(n int) bool {
 	_, told := s.told[n]
 	_, wrong := s.wrong[n]
-	return !told && !wrong
+	return !told && !wrong && !s.lost[n]
+}
+
+// isBase: whether entry k, which makes the object of that name, is what entry n waits for.
+func (s *slow) isBase(k int, id api.ID, n int) bool {
+	e := &s.l[n]
+	return e.Kind == 6 && e.Back > 0 && s.l[k].At == e.At-e.Back || e.Kind == 7 && id == e.Base
+}
+
+// look finds what each open entry may be told by: it makes all objects that there may be by at most 16 deltas.
+func (s *slow) look() {
+	s.lost = map[int]bool{}
+	made, levels := make([]*chain.Object, len(s.l)), make([][]int, 17)
+	for n := range s.l {
+		if o, told := s.told[n]; told {
+			made[n] = &o
+			levels[o.Deep] = append(levels[o.Deep], n)
+		}
+	}
+	for deep := range 16 {
+		for n := range s.l {
+			if made[n] != nil || !s.isOpen(n) {
+				continue
+			}
+			at := slices.IndexFunc(levels[deep], func(k int) bool { return s.isBase(k, made[k].ID, n) })
+			if at < 0 {
+				continue
+			}
+			base := made[levels[deep][at]]
+			if data, err := delta.Apply(base.Data, s.l[n].Data, 16384); err == api.OK {
+				made[n] = &chain.Object{ID: object.ID(base.Kind, data), Kind: base.Kind, Data: data, Deep: deep + 1}
+				levels[deep+1] = append(levels[deep+1], n)
+			}
+		}
+	}
+	s.bases = make([][]int, len(s.l))
+	for n := range s.l {
+		for k := 0; k < len(s.l) && s.isOpen(n); k++ {
+			if made[k] != nil && s.isBase(k, made[k].ID, n) {
+				s.bases[n] = append(s.bases[n], k)
+			}
+		}
+	}
 }
 
 func (s *slow) tell(n int, base chain.Object) {
@@ -139,23 +169,89 @@ func (s *slow) tell(n int, base chain.Object) {
 	s.told[n] = chain.Object{ID: object.ID(base.Kind, data), Kind: base.Kind, Data: data, Deep: base.Deep + 1}
 }
 
-// step tells one entry, or finds one wrong: by the pack's own, if that goes.
-func (s *slow) step(have haver) bool {
-	for n, e := range s.l {
-		if !s.open(n) {
+// ahead answers the open ones that n waits for, and the first told one behind them (-1: none).
+func (s *slow) ahead(n int) (open []int, told int) {
+	for _, k := range s.bases[n] {
+		if _, is := s.told[k]; is {
+			return open, k
+		}
+		if s.isOpen(k) {
+			open = append(open, k)
+		}
+	}
+	return open, -1
+}
+
+// step tells one entry whose first base is known, or gives one up that has none.
+func (s *slow) step() bool {
+	for n := range s.l {
+		if !s.isOpen(n) {
 			continue
 		}
-		if e.Kind != 6 && e.Kind != 7 {
-			s.told[n] = chain.Object{ID: object.ID(e.Kind, e.Data), Kind: e.Kind, Data: e.Data}
-			return true
+		open, told := s.ahead(n)
+		switch {
+		case len(open) > 0:
+			continue
+		case told < 0:
+			s.lost[n] = true
+		default:
+			s.tell(n, s.told[told])
 		}
-		if base, is := s.base(n); is {
-			s.tell(n, base)
+		return true
+	}
+	return false
+}
+
+// behind: all that n waits for, one by the other.
+func (s *slow) behind(n int) map[int]bool {
+	all := map[int]bool{}
+	for todo := []int{n}; len(todo) > 0; todo = todo[1:] {
+		open, _ := s.ahead(todo[0])
+		for _, k := range open {
+			if !all[k] {
+				all[k] = true
+				todo = append(todo, k)
+			}
+		}
+	}
+	return all
+}
+
+// loosen tells one entry of those that wait for one another alone, or gives them up.
+func (s *slow) loosen() bool {
+	behind := map[int]map[int]bool{}
+	for n := range s.l {
+		if s.isOpen(n) {
+			behind[n] = s.behind(n)
+		}
+	}
+	var rings []int
+	for n := range s.l {
+		in := s.isOpen(n)
+		for k := range behind[n] {
+			in = in && behind[k][n]
+		}
+		if in {
+			rings = append(rings, n)
+		}
+	}
+	for _, n := range rings {
+		if _, told := s.ahead(n); told >= 0 {
+			s.tell(n, s.told[told])
 			return true
 		}
 	}
+	for _, n := range rings {
+		s.lost[n] = true
+	}
+	return len(rings) > 0
+}
+
+// ask tells one entry by what have has.
+func (s *slow) ask(have haver) bool {
+	s.lost = nil
 	for n, e := range s.l {
-		if have == nil || e.Kind != 7 || !s.open(n) {
+		if have == nil || e.Kind != 7 || !s.isOpen(n) {
 			continue
 		}
 		if kind, data, has := have(e.Base); has {
@@ -167,31 +263,38 @@ func (s *slow) step(have haver) bool {
 	return false
 }
 
-// slowResolve answers also whether two entries that are told have one name: then which of them is a base tells no more than which error it is.
-func slowResolve(l []entry.Entry, have haver) (out []chain.Object, bases []api.ID, err api.Errno, twice bool) {
-	s := &slow{l: l, told: map[int]chain.Object{}, wrong: map[int]api.Errno{}}
-	for s.step(have) {
-	}
-	for n := range l {
-		for k := range n {
-			a, aTold := s.told[n]
-			b, bTold := s.told[k]
-			twice = twice || aTold && bTold && a.ID == b.ID
+// run tells all that can be told: by the pack's own, and only then by what have has, one by one.
+func (s *slow) run(have haver) {
+	for n, e := range s.l {
+		if e.Kind != 6 && e.Kind != 7 {
+			s.told[n] = chain.Object{ID: object.ID(e.Kind, e.Data), Kind: e.Kind, Data: e.Data}
 		}
 	}
+	for more := true; more; more = s.ask(have) {
+		s.look()
+		for s.step() || s.loosen() {
+		}
+	}
+}
+
+func slowResolve(l []entry.Entry, have haver) (out []chain.Object, bases []api.ID, err api.Errno) {
+	s := &slow{l: l, told: map[int]chain.Object{}, wrong: map[int]api.Errno{}}
+	s.run(have)
+	names := map[api.ID]bool{}
 	for n := range l {
 		o, told := s.told[n]
 		switch wrong, is := s.wrong[n]; {
 		case is:
-			return nil, nil, wrong, twice
+			return nil, nil, wrong
 		case !told:
-			return nil, nil, api.ErrNone, twice
+			return nil, nil, api.ErrNone
 		}
 		out = append(out, o)
+		names[o.ID] = true
 	}
 	for _, o := range out {
-		if twice || object.Check(o.Kind, o.Data) != api.OK {
-			return nil, nil, api.ErrForm, twice
+		if len(names) < len(out) || object.Check(o.Kind, o.Data) != api.OK {
+			return nil, nil, api.ErrForm
 		}
 	}
 	for _, id := range s.outside {
@@ -200,19 +303,16 @@ func slowResolve(l []entry.Entry, have haver) (out []chain.Object, bases []api.I
 			bases = slices.Insert(bases, at, id)
 		}
 	}
-	return out, bases, api.OK, twice
+	return out, bases, api.OK
 }
 
 // checkResolve holds Resolve against the model, and answers what it told.
 func checkResolve(t testing.TB, l []entry.Entry, have haver) ([]chain.Object, []api.ID, api.Errno) {
 	t.Helper()
 	got, bases, err := chain.Resolve(l, have)
-	want, wantBases, wantErr, twice := slowResolve(l, have)
-	if deep := twice && (err == api.ErrLong || wantErr == api.ErrLong); err != wantErr && (!deep || err == api.OK) {
-		t.Fatalf("Resolve(%+v): %v, not %v", l, err, wantErr)
-	}
-	if !sameObjects(got, want) || !slices.Equal(bases, wantBases) {
-		t.Fatalf("Resolve(%+v): %+v, %x, not %+v, %x", l, got, bases, want, wantBases)
+	want, wantBases, wantErr := slowResolve(l, have)
+	if !sameObjects(got, want) || !slices.Equal(bases, wantBases) || err != wantErr {
+		t.Fatalf("Resolve(%+v): %+v, %x, %v, not %+v, %x, %v", l, got, bases, err, want, wantBases, wantErr)
 	}
 	return got, bases, err
 }

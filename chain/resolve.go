@@ -10,83 +10,95 @@ import (
 	"trove/object"
 )
 
+// key is what a base is found by: the place where it begins, or its name.
+type key struct {
+	place int
+	named bool
+	name  api.ID
+}
+
 // resolver tells the entries of a pack, each by its base.
 type resolver struct {
 	l       []entry.Entry
-	told    []Object         // of each entry that is told its object
-	faults  []api.Errno      // of each entry; one that waits for its base has ErrNone, since it may wait in vain
-	byPlace map[int][]int    // the entries whose base begins at a place
-	byName  map[api.ID][]int // the entries whose base has a name
-	stack   []int            // the entries that are told, while what has them as its base is not yet
-	outside []api.ID         // the bases that were no entries
+	made    []Object      // of each entry its object, as soon as that is known; Deep is the least that may be, until it is told
+	applied []api.Errno   // of each entry that may be told what delta.Apply answered
+	faults  []api.Errno   // of each entry; one that waits for its base has ErrNone, since it may wait in vain
+	waiting map[key][]int // the entries whose base is found by a key
+	outside []api.ID      // the bases that were no entries
 }
 
-// newResolver answers one that has told the whole objects alone.
-func newResolver(l []entry.Entry) *resolver {
+// newResolver answers one that has told the whole objects alone, and these.
+func newResolver(l []entry.Entry) (*resolver, []int) {
 	r := &resolver{
 		l:       l,
-		told:    make([]Object, len(l)),
+		made:    make([]Object, len(l)),
+		applied: make([]api.Errno, len(l)),
 		faults:  slices.Repeat([]api.Errno{api.ErrNone}, len(l)),
-		byPlace: map[int][]int{},
-		byName:  map[api.ID][]int{},
+		waiting: map[key][]int{},
 	}
+	var wholes []int
 	for n, e := range l {
 		switch {
-		case e.Kind == entry.Ref:
-			r.byName[e.Base] = append(r.byName[e.Base], n)
-		case e.Kind != entry.Ofs:
+		case e.Kind != entry.Ofs && e.Kind != entry.Ref:
 			r.put(n, Object{Kind: e.Kind, Data: bytes.Clone(e.Data)})
-		case e.Back >= 1: // an entry that has less is none of pack.Read's, and has no base
-			r.byPlace[e.At-e.Back] = append(r.byPlace[e.At-e.Back], n)
+			r.faults[n] = api.OK
+			wholes = append(wholes, n)
+		case e.Kind == entry.Ref || e.Back >= 1: // an Ofs that has less is none of pack.Read's, and has no base
+			r.wait(n)
 		}
 	}
-	return r
+	return r, wholes
 }
 
-// put tells entry n.
+// put keeps the object of entry n.
 func (r *resolver) put(n int, o Object) {
 	o.ID = object.ID(o.Kind, o.Data)
-	r.told[n], r.faults[n] = o, api.OK
-	r.stack = append(r.stack, n)
+	r.made[n] = o
+}
+
+// wants answers the key of entry n's base.
+func (r *resolver) wants(n int) key {
+	e := r.l[n]
+	if e.Kind == entry.Ofs {
+		return key{place: e.At - e.Back}
+	}
+	return key{named: true, name: e.Base}
+}
+
+// keys answers what entry n, whose object is known, is found by.
+func (r *resolver) keys(n int) [2]key {
+	return [2]key{{place: r.l[n].At}, {named: true, name: r.made[n].ID}}
+}
+
+// wait lets entry n be found by the key of its base.
+func (r *resolver) wait(n int) {
+	k := r.wants(n)
+	r.waiting[k] = append(r.waiting[k], n)
 }
 
 // waits tells whether entry n has neither been told yet nor found wrong.
 func (r *resolver) waits(n int) bool { return r.faults[n] == api.ErrNone }
 
-// tell tells entry n by its base, or finds it wrong.
-func (r *resolver) tell(n int, base Object) {
-	deep := base.Deep + 1
-	if deep > api.MaxChain {
-		r.faults[n] = api.ErrLong
-		return
-	}
+// isTold tells whether entry n has been told.
+func (r *resolver) isTold(n int) bool { return r.faults[n] == api.OK }
+
+// apply makes the object of entry n, or answers false.
+func (r *resolver) apply(n int, base Object) bool {
 	data, err := delta.Apply(base.Data, r.l[n].Data, api.MaxObject)
+	r.applied[n] = err
 	if err != api.OK {
-		r.faults[n] = err
-		return
+		return false
 	}
-	r.put(n, Object{Kind: base.Kind, Data: data, Deep: deep})
+	r.put(n, Object{Kind: base.Kind, Data: data, Deep: base.Deep + 1})
+	return true
 }
 
-// tellAll tells those of the entries that wait: one of them may have been told by what have has.
-func (r *resolver) tellAll(entries []int, base Object) {
-	for _, n := range entries {
-		if r.waits(n) {
-			r.tell(n, base)
-		}
-	}
-}
-
-// spread tells all that the pack's own entries can tell.
-func (r *resolver) spread() {
-	for len(r.stack) > 0 {
-		last := len(r.stack) - 1
-		at, base := r.l[r.stack[last]].At, r.told[r.stack[last]]
-		r.stack = r.stack[:last]
-		r.tellAll(r.byPlace[at], base)
-		r.tellAll(r.byName[base.ID], base)
-		delete(r.byPlace, at) // no more of them wait, however many entries have one place or one name
-		delete(r.byName, base.ID)
+// tell tells entry n, whose object was made, by its base, or finds it wrong.
+func (r *resolver) tell(n int, base Object) {
+	r.faults[n] = r.applied[n]
+	r.made[n].Deep = base.Deep + 1
+	if base.Deep >= api.MaxChain {
+		r.faults[n] = api.ErrLong
 	}
 }
 
@@ -100,9 +112,13 @@ func (r *resolver) tellBy(have func(id api.ID) (int, []byte, bool)) {
 		if !has {
 			continue
 		}
-		r.tell(n, Object{Kind: kind, Data: data})
 		r.outside = append(r.outside, e.Base)
-		r.spread()
+		base := Object{Kind: kind, Data: data}
+		r.apply(n, base)
+		r.tell(n, base)
+		if r.isTold(n) {
+			r.spread([]int{n})
+		}
 	}
 }
 
@@ -114,13 +130,13 @@ func (r *resolver) fault() api.Errno {
 		}
 	}
 	names := map[api.ID]struct{}{}
-	for _, o := range r.told {
+	for _, o := range r.made {
 		if object.Check(o.Kind, o.Data) != api.OK {
 			return api.ErrForm
 		}
 		names[o.ID] = struct{}{}
 	}
-	if len(names) < len(r.told) {
+	if len(names) < len(r.made) {
 		return api.ErrForm
 	}
 	return api.OK
